@@ -1,0 +1,1 @@
+"""Nearestword: codes over small fields, their nearest words, and decoders."""
