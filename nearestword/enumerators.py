@@ -5,7 +5,7 @@ from math import gcd
 from nearestword.changes import dual, require_positions
 from nearestword.errors import InvalidCode
 from nearestword.fields import LARGEST_ORDER, int_power
-from nearestword.limits import GREATEST_LENGTH, choose, require_length
+from nearestword.limits import GREATEST_LENGTH, choose, require_between, require_length, require_order
 from nearestword.matrices import rank_of
 from nearestword.words import weight_of
 
@@ -131,11 +131,9 @@ def _separable_count(order, length, distance, weight):
 
 def separable_enumerator(order, length, dimension):
     """The counts of a separable code of these parameters."""
-    if order < 2 or order > LARGEST_ORDER:
-        raise InvalidCode(f"the order is from 2 to {LARGEST_ORDER}")
+    require_order(order)
     require_length(length)
-    if dimension < 0 or dimension > length:
-        raise InvalidCode("the dimension is from 0 to the length")
+    require_between("dimension", dimension, 0, length)
     distance = length - dimension + 1
     counts = [1] + [0] * length
     for weight in range(distance, length + 1):

@@ -3,6 +3,7 @@
 from math import comb
 
 from nearestword.errors import InvalidCode, TooLarge
+from nearestword.fields import LARGEST_ORDER
 
 MOST_CASES = 4096
 GREATEST_LENGTH = 255
@@ -15,10 +16,20 @@ def require_few(count):
         raise TooLarge(f"there are more than {MOST_CASES}")
 
 
+def require_between(name, number, least, greatest):
+    """Raises InvalidCode if the number, which is called by the name, is beyond one of its limits."""
+    if number < least or number > greatest:
+        raise InvalidCode(f"the {name} is from {least} to {greatest}")
+
+
+def require_order(order):
+    """Raises InvalidCode if the order is beyond those of the fields."""
+    require_between("order", order, 2, LARGEST_ORDER)
+
+
 def require_length(length):
     """Raises InvalidCode if no code has this length."""
-    if length < 1 or length > GREATEST_LENGTH:
-        raise InvalidCode(f"the length of a code is from 1 to {GREATEST_LENGTH}")
+    require_between("length", length, 1, GREATEST_LENGTH)
 
 
 def choose(many, few):

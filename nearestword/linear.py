@@ -1,10 +1,10 @@
 """Linear codes."""
 
-from nearestword.errors import InvalidCode, InvalidWord, NotInCode
+from nearestword.errors import InvalidCode, NotInCode
 from nearestword.fields import int_power
 from nearestword.limits import require_few, require_length
 from nearestword.matrices import combine_rows, kernel, kernel_of_reduced, reduce_rows
-from nearestword.words import is_word, zero_word
+from nearestword.words import is_word, require_word, zero_word
 
 
 def _require_rows(field, length, rows):
@@ -49,14 +49,8 @@ class LinearCode:
 
     def word_for(self, message):
         """The word for the message."""
-        if not is_word(self.field, self.dimension, message):
-            raise InvalidWord("this is not a message of the code")
+        require_word(self.field, self.dimension, message)
         return combine_rows(self.field, message, self._rows, self.length)
-
-    def _require_word(self, word):
-        """Raises InvalidWord if the list is not a word of the code's length over its field."""
-        if not is_word(self.field, self.length, word):
-            raise InvalidWord("this is not a word of the code's length over its field")
 
     def _word_with_pivots_of(self, word):
         """The word of the code that agrees with the given one at the pivots."""
@@ -64,7 +58,7 @@ class LinearCode:
 
     def contains(self, word):
         """Tells whether the word belongs to the code."""
-        self._require_word(word)
+        require_word(self.field, self.length, word)
         return self._word_with_pivots_of(word) == word
 
     def message_of(self, word):
@@ -75,7 +69,7 @@ class LinearCode:
 
     def syndrome(self, word):
         """The syndrome of a word of the code's length."""
-        self._require_word(word)
+        require_word(self.field, self.length, word)
         # A check subtracts from the item at its position what the reduced rows put there.
         near = self._word_with_pivots_of(word)
         rest = self.field.plus_multiple(word, self.field.negative(1), near)

@@ -19,10 +19,16 @@ def _require_same_length(first, second):
         raise InvalidWord("the two words have different lengths")
 
 
-def _require_word(field, length, word):
+def require_word(field, length, word):
     """Raises InvalidWord if the list is not a word of the length over the field."""
     if not is_word(field, length, word):
         raise InvalidWord(f"this is not a word of {length} items over the field")
+
+
+def require_received(field, length, received):
+    """Raises InvalidWord if the list is not a received word of the length over the field."""
+    if not is_received(field, length, received):
+        raise InvalidWord(f"this is not a received word of {length} items over the field")
 
 
 def distance_between(first, second):
@@ -61,22 +67,22 @@ def zero_word(length):
 
 def add_words(field, first, second):
     """The sum of two words."""
-    _require_word(field, len(first), first)
-    _require_word(field, len(first), second)
+    require_word(field, len(first), first)
+    require_word(field, len(first), second)
     return field.plus_multiple(first, 1, second)
 
 
 def subtract_words(field, first, second):
     """The difference of two words."""
-    _require_word(field, len(first), first)
-    _require_word(field, len(first), second)
+    require_word(field, len(first), first)
+    require_word(field, len(first), second)
     return field.plus_multiple(first, field.negative(1), second)
 
 
 def scale_word(field, factor, word):
     """The multiple of the word by the factor."""
-    _require_word(field, 1, [factor])
-    _require_word(field, len(word), word)
+    require_word(field, 1, [factor])
+    require_word(field, len(word), word)
     return field.multiple(factor, word)
 
 

@@ -86,6 +86,28 @@ raises InvalidField
 >>> (dual_enumerator(3, [1, 0, 2, 0]), separable_enumerator(5, 4, 2))
 ([1, 2, 2, 4], [1, 0, 0, 16, 8])
 """,
+    "bounds": """
+>>> from nearestword.bounds import greatest_distance, varshamov_code
+>>> from nearestword.fields import Field
+>>> (greatest_distance(3, 6, 3), varshamov_code(Field(3), 4, 2, 2).rows)
+(3, [[1, 0, 0, 2], [0, 1, 0, 2]])
+""",
+    "cosets": """
+>>> from nearestword.cosets import deep_holes, leaders
+>>> from nearestword.fields import Field
+>>> from nearestword.linear import LinearCode
+>>> code = LinearCode(Field(3), 2, [[1, 2]])
+>>> leaders(code)
+[((0,), [[0, 0]]), ((1,), [[0, 1], [1, 0]]), ((2,), [[0, 2], [2, 0]])]
+>>> deep_holes(code)
+[[0, 1], [0, 2], [1, 0], [1, 1], [2, 0], [2, 2]]
+""",
+    "checksums": """
+>>> from nearestword.checksums import Checksum
+>>> checksum = Checksum([1, 1, 0, 0, 0, 1])
+>>> (checksum.remainder([1, 0, 0]), checksum.sealed([1, 1]), checksum.period())
+([0, 1, 1, 0, 0], [1, 1, 0, 0, 1, 0, 1], 21)
+""",
 }
 
 

@@ -3,9 +3,10 @@
 import unittest
 
 from nearestword import (
-    changes, distances, enumerators, families, fields, linear, matrices, polynomials, words,
+    bounds, changes, checksums, cosets, decoding, distances, enumerators, families, fields, linear, matrices, nearest,
+    polynomials, words,
 )
-from nearestword.errors import CodeError
+from nearestword.errors import Ambiguous, CodeError
 from tests.support import all_lists, deep_copy, spoil
 
 FIELD = fields.Field(5)
@@ -15,6 +16,10 @@ ZERO = families.zero_code(FIELD, 4)
 WHOLE = families.whole_code(FIELD, 2)
 ROWS = [[1, 2, 0], [2, 4, 1], [0, 0, 3]]
 CERTIFICATE = ([0, 1, 3, 3], [[3, 2], [0, 1]], 1)
+PAIRS = families.repetition_code(FIELD, 2)
+CHECKSUM = checksums.Checksum([1, 1, 0, 1])
+SYNDROMES = decoding.SyndromeDecoder(CODE)
+ERASURES = decoding.ErasureDecoder(CODE)
 
 CALLS = [
     (FIELD.digits, 3), (FIELD.element, [3]), (FIELD.all_elements,),
@@ -60,34 +65,68 @@ CALLS = [
     (enumerators.enumerator_by_dual, CODE), (enumerators.outer_distance, CODE),
     (enumerators.vanishing_dimension, CODE, [3, 0]), (enumerators.binomial_moment, [1, 0, 2, 0], 1),
     (enumerators.average_weight, [1, 0, 2, 0]), (enumerators.separable_enumerator, 5, 4, 2),
+    (bounds.is_perfect, CODE), (bounds.is_separable, CODE), (bounds.varshamov_code, FIELD, 4, 2, 2),
+    (bounds.varshamov_code, FIELD, 4, 2, 4),
+    (cosets.leaders, PAIRS), (cosets.leader_weights, CODE), (cosets.covering_radius, CODE),
+    (cosets.coset_of, CODE, [1, 0, 2, 3]), (cosets.coset_of, ZERO, [1, 0, 2, 3]), (cosets.coset_of, CODE, [1, 0, 2]),
+    (cosets.deep_holes, PAIRS), (cosets.deep_holes, ZERO),
+    (checksums.Checksum, [1, 1, 0, 1]), (checksums.Checksum, [1, 1, 0]), (CHECKSUM.remainder, [1, 0, 1, 1]),
+    (CHECKSUM.remainder, []), (CHECKSUM.sealed, [1, 0]), (CHECKSUM.sealed, []), (CHECKSUM.sealed, [2]),
+    (CHECKSUM.is_good, [1, 0, 1, 1]), (CHECKSUM.advance, [0, 0, 0], 0), (CHECKSUM.advance, [1, 0, 0], 1),
+    (CHECKSUM.advance, [1, 0], 1), (CHECKSUM.remainder_by_blocks, [1, 0, 1, 1], 4),
+    (CHECKSUM.remainder_by_blocks, [1, 0, 1, 1], 3), (CHECKSUM.remainder_by_blocks, [1, 0, 1, 1], 9),
+    (CHECKSUM.linear, 4), (CHECKSUM.period,), (CHECKSUM.finds_odd,),
+    (nearest.nearest, CODE, [1, None, 2, 3]), (nearest.nearest, CODE, [1, 5, 2, 3]),
+    (nearest.within, CODE, [1, None, 2, 3], 2), (nearest.nearest_word, CODE, [1, 0, 2, 3]),
+    (nearest.nearest_word, CODE, [1, None, None, 3]), (nearest.word_within, CODE, [1, 0, 2, 3], 1),
+    (nearest.word_within, CODE, [1, 0, 2, 3], 0), (nearest.word_within, CODE, [1, 0, 2, 3], 3),
+    (decoding.SyndromeDecoder, PAIRS), (SYNDROMES.leaders_of, [1, 0, 2, 3]), (SYNDROMES.leaders_of, [1, 0, 2, None]),
+    (SYNDROMES.corrected, [1, 0, 2, 3]), (SYNDROMES.corrected, [1, 1, 1, 1]), (SYNDROMES.corrected, [1, 0, 2, 4]),
+    (SYNDROMES.nearest, [1, 0, 2, 3]), (SYNDROMES.nearest, [1, 1, 1, 1]),
+    (decoding.ErasureDecoder, PAIRS), (ERASURES.can_fill, [3, 1, 3]), (ERASURES.can_fill, []),
+    (ERASURES.filled, [1, None, 2, None]), (ERASURES.filled, [1, 0, 2, 4]), (ERASURES.filled, [1, None, None, None]),
+    (ERASURES.filled, [1, 0, 2, 3]),
 ]
+KEPT = (CODE, PARITY, ZERO, WHOLE, PAIRS, CHECKSUM, SYNDROMES, ERASURES)
 
 
-def state_of(code):
-    return (code.rows, code.pivots, code.checks, code.size, code.length, code.dimension)
+def state_of(value):
+    """What an object tells of itself; anything else stays as it is."""
+    if isinstance(value, linear.LinearCode):
+        return (value.rows, value.pivots, value.checks, value.size, value.length, value.dimension)
+    if isinstance(value, checksums.Checksum):
+        return (value.generator, value.degree, value.remainder([1]), value.remainder_by_blocks([1], 2))
+    if isinstance(value, decoding.SyndromeDecoder):
+        every = words.all_words(value.code.field, value.code.length)
+        return (state_of(value.code), [value.leaders_of(word) for word in every])
+    if isinstance(value, decoding.ErasureDecoder):
+        return (state_of(value.code), value.filled([0] * value.code.length))
+    return value
 
 
 def outcome(call, arguments):
-    """What the call returns, a code as its state; or the class of the error that it raises."""
+    """What the call returns, an object as its state; or the class of the error that it raises, and its words."""
     try:
-        result = call(*arguments)
+        return state_of(call(*arguments))
+    except Ambiguous as error:
+        return (error.__class__, error.found)
     except CodeError as error:
         return error.__class__
-    return state_of(result) if isinstance(result, linear.LinearCode) else result
 
 
 class UnchangedTest(unittest.TestCase):
     def test_point_3_arguments_stay_as_they_are(self):
-        before = [state_of(code) for code in (CODE, PARITY, ZERO, WHOLE)]
+        before = [state_of(value) for value in KEPT]
         for call, *arguments in CALLS:
             with self.subTest(call=call.__name__, arguments=arguments):
                 given = deep_copy(arguments)
                 first = outcome(call, given)
                 self.assertEqual(given, arguments)
                 self.assertEqual(outcome(call, given), first)
-        self.assertEqual([state_of(code) for code in (CODE, PARITY, ZERO, WHOLE)], before)
+        self.assertEqual([state_of(value) for value in KEPT], before)
 
     def test_point_3_results_are_new_lists(self):
+        before = [state_of(value) for value in KEPT]
         for call, *arguments in CALLS:
             with self.subTest(call=call.__name__, arguments=arguments):
                 given = deep_copy(arguments)
@@ -98,6 +137,7 @@ class UnchangedTest(unittest.TestCase):
                 spoil(result)
                 self.assertEqual(given, arguments)
                 self.assertEqual(outcome(call, given), kept)
+        self.assertEqual([state_of(value) for value in KEPT], before)
 
     def test_point_3_objects_copy_what_they_are_given(self):
         rows = deep_copy(ROWS)
@@ -107,6 +147,10 @@ class UnchangedTest(unittest.TestCase):
             spoil(rows)
             self.assertEqual(state_of(code), before)
             rows = deep_copy(ROWS)
+        generator = [1, 1, 0, 1]
+        checksum = checksums.Checksum(generator)
+        spoil(generator)
+        self.assertEqual(state_of(checksum), state_of(CHECKSUM))
         order, positions = [3, 1, 0, 2], [1]
         made = [changes.permuted(CODE, order), changes.shortened(CODE, positions), changes.punctured(CODE, positions)]
         before = [deep_copy(state_of(code)) for code in made]
