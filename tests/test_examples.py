@@ -108,6 +108,53 @@ raises InvalidField
 >>> (checksum.remainder([1, 0, 0]), checksum.sealed([1, 1]), checksum.period())
 ([0, 1, 1, 0, 0], [1, 1, 0, 0, 1, 0, 1], 21)
 """,
+    "cyclic": """
+>>> from nearestword.fields import Field
+>>> from nearestword.cyclic import CyclicCode
+>>> CyclicCode(Field(5), 4, [3, 1]).word_for([1, 0, 2])
+[2, 1, 0, 2]
+
+>>> from nearestword.fields import Field
+>>> from nearestword.cyclic import cyclic_generators
+>>> cyclic_generators(Field(5), 2)
+[[1], [1, 1], [4, 1], [4, 0, 1]]
+""",
+    "keyequation": """
+>>> from nearestword.fields import Field
+>>> from nearestword.keyequation import key_equation
+>>> key_equation(Field(5), [0, 0, 0, 1], [1, 1], 1)
+([1], [1, 4, 1])
+
+>>> from nearestword.fields import Field
+>>> from nearestword.keyequation import shortest_register
+>>> shortest_register(Field(5), [1, 3, 2, 2, 1, 4])
+([1, 3, 4], 2)
+""",
+    "evaluation": """
+>>> from nearestword.fields import Field
+>>> from nearestword.evaluation import EvaluationCode
+>>> code = EvaluationCode(Field(5), [0, 1, 2, 3, 4], 2)
+>>> code.word_for([1, 2])
+[1, 3, 0, 2, 4]
+>>> code.corrected([1, 3, 0, 2, 0])
+[1, 3, 0, 2, 4]
+>>> code.error_locator([1, 3, 0, 2, 0])
+[1, 1]
+""",
+    "bch": """
+>>> from nearestword.fields import Field
+>>> from nearestword.bch import minimal_polynomial
+>>> minimal_polynomial(Field(2, (1, 1, 1)), 2)
+[1, 1, 1]
+
+>>> from nearestword.fields import standard_field
+>>> from nearestword.bch import BchCode
+>>> code = BchCode(standard_field(9), 8, 4)
+>>> code.generator
+[2, 1, 0, 1, 1]
+>>> code.corrected([0, 0, 0, 0, 0, 2, 0, 0])
+[0, 0, 0, 0, 0, 0, 0, 0]
+""",
 }
 
 

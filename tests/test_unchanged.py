@@ -3,8 +3,8 @@
 import unittest
 
 from nearestword import (
-    bounds, changes, checksums, cosets, decoding, distances, enumerators, families, fields, linear, matrices, nearest,
-    polynomials, words,
+    bch, bounds, changes, checksums, cosets, cyclic, decoding, distances, enumerators, evaluation, families, fields,
+    judging, keyequation, linear, matrices, nearest, polynomials, words,
 )
 from nearestword.errors import Ambiguous, CodeError
 from tests.support import all_lists, deep_copy, spoil
@@ -20,6 +20,9 @@ PAIRS = families.repetition_code(FIELD, 2)
 CHECKSUM = checksums.Checksum([1, 1, 0, 1])
 SYNDROMES = decoding.SyndromeDecoder(CODE)
 ERASURES = decoding.ErasureDecoder(CODE)
+CYCLIC = cyclic.CyclicCode(FIELD, 4, [3, 1])
+VALUES = evaluation.EvaluationCode(FIELD, [0, 1, 2, 3, 4], 2)
+BCH = bch.BchCode(fields.standard_field(9), 8, 4)
 
 CALLS = [
     (FIELD.digits, 3), (FIELD.element, [3]), (FIELD.all_elements,),
@@ -86,8 +89,34 @@ CALLS = [
     (decoding.ErasureDecoder, PAIRS), (ERASURES.can_fill, [3, 1, 3]), (ERASURES.can_fill, []),
     (ERASURES.filled, [1, None, 2, None]), (ERASURES.filled, [1, 0, 2, 4]), (ERASURES.filled, [1, None, None, None]),
     (ERASURES.filled, [1, 0, 2, 3]),
+    (judging.check_nearest, CODE, [1, 0, 2, 3], 1, [[1, 0, 2, 4]]),
+    (judging.check_nearest, CODE, [1, 0, 2, None], 1, [[1, 0, 2, 4], [1]]),
+    (judging.check_within, CODE, [1, None, 2, 3], [1, 0, 2, 4], 1), (judging.check_within, CODE, [1, 0, 2, 3], [1], 1),
+    (judging.is_safe, CODE, 1), (judging.is_safe, CODE, 2), (judging.conflict, CODE, 1), (judging.conflict, CODE, 2),
+    (judging.conflict, CODE, 3), (judging.conflict, CODE, 9),
+    (cyclic.CyclicCode, FIELD, 4, [3, 1]), (cyclic.CyclicCode, FIELD, 4, [3, 2]), (CYCLIC.word_for, [1, 0, 2]),
+    (CYCLIC.word_for, [1, 0]), (CYCLIC.contains, [2, 1, 0, 2]), (CYCLIC.message_of, [2, 1, 0, 2]),
+    (CYCLIC.message_of, [2, 1, 0, 1]), (CYCLIC.shifted, [2, 1, 0, 1], 0), (CYCLIC.shifted, [2, 1, 0, 1], -3),
+    (CYCLIC.linear,), (cyclic.CyclicCode(FIELD, 4, [1]).word_for, [1, 0, 2, 0]),
+    (cyclic.CyclicCode(FIELD, 4, [1]).message_of, [1, 0, 2, 0]), (cyclic.CyclicCode(FIELD, 4, [4, 0, 0, 0, 1]).word_for, []),
+    (cyclic.cyclic_generators, FIELD, 4),
+    (keyequation.key_equation, FIELD, [0, 0, 0, 1], [1, 1], 1), (keyequation.key_equation, FIELD, [0, 0, 0, 1], [1, 1], 3),
+    (keyequation.key_equation, FIELD, [0, 0, 0, 1], [], 0), (keyequation.key_equation, FIELD, [], [], 0),
+    (keyequation.shortest_register, FIELD, [1, 3, 2, 2, 1, 4]), (keyequation.shortest_register, FIELD, []),
+    (keyequation.shortest_register, FIELD, [0, 0, 3]),
+    (evaluation.EvaluationCode, FIELD, [3, 1, 2], 2), (evaluation.EvaluationCode, FIELD, [3, 1, 3], 2),
+    (VALUES.word_for, [1, 2]), (VALUES.word_for, [0, 0]), (VALUES.word_for, [1]), (VALUES.contains, [1, 3, 0, 2, 4]),
+    (VALUES.message_of, [1, 3, 0, 2, 4]), (VALUES.message_of, [1, 3, 0, 2, 0]), (VALUES.linear,),
+    (VALUES.corrected, [1, 3, 0, 2, 0]), (VALUES.corrected, [1, 3, 0, 2, 4]), (VALUES.corrected, [1, 3, 0, None, None]),
+    (VALUES.corrected, [None, 3, 0, 2, 2]), (VALUES.message_for, [1, 3, 0, 2, 0]), (VALUES.message_for, [0] * 5),
+    (VALUES.error_locator, [1, 3, 0, 2, 0]), (VALUES.error_locator, [1, 3, 0, 2, 4]),
+    (bch.minimal_polynomial, BCH.field, 5), (bch.BchCode, BCH.field, 8, 4), (bch.BchCode, BCH.field, 3, 1),
+    (BCH.word_for, [1, 0, 2, 0]), (BCH.word_for, [1, 0]), (BCH.contains, [2, 1, 0, 1, 1, 0, 0, 0]),
+    (BCH.message_of, [2, 1, 0, 1, 1, 0, 0, 0]), (BCH.message_of, [2, 1, 0, 1, 1, 0, 0, 1]), (BCH.linear,),
+    (BCH.syndromes, [2, 1, 0, 1, 1, 0, 0, 1]), (BCH.corrected, [0, 0, 0, 0, 0, 2, 0, 0]), (BCH.corrected, [0] * 8),
+    (BCH.corrected, [2, 1, None, 1, 1, 0, None, 0]), (BCH.corrected, [None] * 8),
 ]
-KEPT = (CODE, PARITY, ZERO, WHOLE, PAIRS, CHECKSUM, SYNDROMES, ERASURES)
+KEPT = (CODE, PARITY, ZERO, WHOLE, PAIRS, CHECKSUM, SYNDROMES, ERASURES, CYCLIC, VALUES, BCH)
 
 
 def state_of(value):
@@ -101,6 +130,11 @@ def state_of(value):
         return (state_of(value.code), [value.leaders_of(word) for word in every])
     if isinstance(value, decoding.ErasureDecoder):
         return (state_of(value.code), value.filled([0] * value.code.length))
+    if isinstance(value, (cyclic.CyclicCode, bch.BchCode)):
+        polys = (value.generator, getattr(value, "check_polynomial", None))
+        return (polys, value.length, value.dimension, state_of(value.linear()), value.contains([1] * value.length))
+    if isinstance(value, evaluation.EvaluationCode):
+        return (value.points, value.length, value.dimension, state_of(value.linear()), value.corrected([1] * value.length))
     return value
 
 
@@ -151,6 +185,10 @@ class UnchangedTest(unittest.TestCase):
         checksum = checksums.Checksum(generator)
         spoil(generator)
         self.assertEqual(state_of(checksum), state_of(CHECKSUM))
+        poly, points = [3, 1], [0, 1, 2, 3, 4]
+        made = [cyclic.CyclicCode(FIELD, 4, poly), evaluation.EvaluationCode(FIELD, points, 2)]
+        spoil([poly, points])
+        self.assertEqual([state_of(code) for code in made], [state_of(CYCLIC), state_of(VALUES)])
         order, positions = [3, 1, 0, 2], [1]
         made = [changes.permuted(CODE, order), changes.shortened(CODE, positions), changes.punctured(CODE, positions)]
         before = [deep_copy(state_of(code)) for code in made]
