@@ -1,8 +1,7 @@
 """Cyclic codes."""
 
 from nearestword.errors import InvalidCode, NotInCode
-from nearestword.fields import int_power
-from nearestword.limits import require_few, require_length
+from nearestword.limits import require_length
 from nearestword.linear import LinearCode
 from nearestword.polynomials import degree_of, poly_divide, poly_factors, poly_multiply, poly_trim
 from nearestword.words import require_word
@@ -82,10 +81,10 @@ def _place_of(poly):
 def cyclic_generators(field, length):
     """All generators of cyclic codes of the length, in ascending order."""
     require_length(length)
-    require_few(int_power(field.order, length // 2))
     generators = [[1]]
+    # Finding the factors has the same limit as this function, and raises the same error beyond it.
     for factor, count in poly_factors(field, _full_circle(field, length)):
-        grown = list(generators)
+        grown = generators
         for _ in range(count):
             grown = [poly_multiply(field, poly, factor) for poly in grown]
             generators = generators + grown

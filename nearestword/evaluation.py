@@ -5,7 +5,7 @@ from nearestword.keyequation import key_equation
 from nearestword.limits import GREATEST_LENGTH, require_between
 from nearestword.linear import LinearCode
 from nearestword.polynomials import degree_of, interpolate, poly_divide, poly_evaluate, poly_from_roots, poly_trim
-from nearestword.words import erased_positions, errors_beside, is_word, require_received, require_word
+from nearestword.words import is_word, require_received, require_word
 
 
 def _require_points(field, points):
@@ -71,41 +71,33 @@ class EvaluationCode:
         """The number of errors that are mended beside so many erased positions."""
         return (self.length - erased - self.dimension) // 2
 
-    def _candidate(self, received, errors):
-        """The only polynomial that may have a word with at most so many errors, None if there is none."""
+    def _decoded(self, received):
+        """The polynomial of the corrected word."""
+        require_received(self.field, self.length, received)
         known = [at for at, item in enumerate(received) if item is not None]
+        errors = self.mended(self.length - len(known))
+        if errors < 0:
+            raise TooManyErrors("too few positions are left")
         points = [self._points[at] for at in known]
         value = interpolate(self.field, points, [received[at] for at in known])
         vanishing = poly_from_roots(self.field, points)
-        # For the polynomial f of such a word, and e with the roots at its errors, the key equation has
-        # the solution (f * e, e); by its uniqueness, f is the quotient of every solution.
+        # For the polynomial f of the corrected word, and e with the roots at its errors, the key equation
+        # has the solution (f * e, e); by its uniqueness, f is the quotient of every solution.
         top, bottom = key_equation(self.field, vanishing, value, len(known) - errors)
         poly, remainder = poly_divide(self.field, top, bottom)
-        return poly if remainder == [] and degree_of(poly) < self.dimension else None
-
-    def _decoded(self, received):
-        """The polynomial of the corrected word, and that word."""
-        require_received(self.field, self.length, received)
-        errors = self.mended(len(erased_positions(received)))
-        if errors < 0:
-            raise TooManyErrors("too few positions are left")
-        poly = self._candidate(received, errors)
-        if poly is None:
+        # What is received differs from the values of such a quotient only at the roots of the bottom,
+        # whose degree is at most the number of errors that are mended.
+        if remainder != [] or degree_of(poly) >= self.dimension:
             raise TooManyErrors("no word of the code is near enough")
-        word = self._values_of(poly)
-        if errors_beside(word, received) > errors:
-            raise TooManyErrors("no word of the code is near enough")
-        return (poly, word)
+        return poly
 
     def corrected(self, received):
         """The word of the code that has at most as many errors as are mended."""
-        _, word = self._decoded(received)
-        return word
+        return self._values_of(self._decoded(received))
 
     def message_for(self, received):
         """The message of the corrected word."""
-        poly, _ = self._decoded(received)
-        return self._message_with(poly)
+        return self._message_with(self._decoded(received))
 
     def error_locator(self, received):
         """The monic polynomial whose roots are the points of the errors."""

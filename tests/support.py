@@ -83,6 +83,16 @@ def weight(word):
     return sum(1 for item in word if item != 0)
 
 
+def only_word_within(words, received, limit):
+    """The only word with at most so many errors beside the received one, None if there is none."""
+    near = [
+        word for word in words
+        if sum(1 for item, told in zip(word, received) if told is not None and told != item) <= limit
+    ]
+    assert len(near) <= 1
+    return near[0] if near else None
+
+
 def random_rows(seed, field, many, width):
     source = random.Random(seed)
     return [[source.randrange(field.order) for _ in range(width)] for _ in range(many)]

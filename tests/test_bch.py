@@ -10,7 +10,7 @@ from nearestword.distances import minimum_distance
 from nearestword.errors import InvalidCode, InvalidWord, NotInCode, TooManyErrors
 from nearestword.fields import Field, standard_field
 from nearestword.polynomials import poly_divide, poly_evaluate
-from tests.support import LARGE_FIELDS, SMALL_FIELDS, every_word, slow_plus, slow_times
+from tests.support import LARGE_FIELDS, SMALL_FIELDS, every_word, only_word_within, slow_plus, slow_times
 
 FIELDS = SMALL_FIELDS + (
     standard_field(16), standard_field(27), standard_field(7), standard_field(49), Field(2, (1, 0, 0, 1, 1)), Field(31),
@@ -41,13 +41,7 @@ def slow_minimal(field, element):
 
 def slow_corrected(code, words, received):
     """The only word that is near enough, None if there is none."""
-    limit = (code.distance - 1 - received.count(None)) // 2
-    near = [
-        word for word in words
-        if sum(1 for item, told in zip(word, received) if told is not None and told != item) <= limit
-    ]
-    assert len(near) <= 1
-    return near[0] if near else None
+    return only_word_within(words, received, (code.distance - 1 - received.count(None)) // 2)
 
 
 class MinimalPolynomialTest(unittest.TestCase):

@@ -119,11 +119,14 @@ class TwoCodesTest(unittest.TestCase):
     def test_point_37_different_lengths(self):
         first, second = parity_code(Field(2), 2), parity_code(Field(2), 3)
         self.assertEqual(joined(first, second).rows, [[1, 1, 0, 0, 0], [0, 0, 1, 0, 1], [0, 0, 0, 1, 1]])
+        # Codes without rows or without checks are refused, too.
+        pairs = [(first, second)] + [(family(Field(2), 2), family(Field(2), 3)) for family in (zero_code, whole_code)]
         for make in (doubled, span_of, meeting):
-            with self.assertRaises(InvalidCode):
-                make(first, second)
-            with self.assertRaises(InvalidCode):
-                make(second, first)
+            for shorter, longer in pairs:
+                with self.assertRaises(InvalidCode):
+                    make(shorter, longer)
+                with self.assertRaises(InvalidCode):
+                    make(longer, shorter)
 
     def test_point_37_greatest_lengths(self):
         field = Field(2)

@@ -9,7 +9,7 @@ from nearestword.errors import InvalidCode, InvalidWord, NotInCode, TooManyError
 from nearestword.evaluation import EvaluationCode
 from nearestword.fields import Field, standard_field
 from nearestword.polynomials import poly_from_roots, poly_roots
-from tests.support import SMALL_FIELDS, every_word, slow_plus, slow_times
+from tests.support import SMALL_FIELDS, every_word, only_word_within, slow_plus, slow_times
 
 
 def slow_value(field, message, point):
@@ -32,13 +32,7 @@ def some_codes():
 
 def slow_corrected(code, words, received):
     """The only word that is near enough, None if there is none."""
-    limit = (code.length - received.count(None) - code.dimension) // 2
-    near = [
-        word for word in words
-        if sum(1 for item, told in zip(word, received) if told is not None and told != item) <= limit
-    ]
-    assert len(near) <= 1
-    return near[0] if near else None
+    return only_word_within(words, received, (code.length - received.count(None) - code.dimension) // 2)
 
 
 def spoiled(field, word, erased, wrong):
@@ -68,6 +62,10 @@ class EvaluationCodeTest(unittest.TestCase):
             if field.order ** code.length <= 800:
                 inside = [word for word in every_word(field, code.length) if code.contains(word)]
                 self.assertEqual(inside, sorted(words))
+                for word in every_word(field, code.length):
+                    if word not in inside:
+                        with self.assertRaises(NotInCode):
+                            code.message_of(word)
 
     def test_point_81_edges(self):
         field = Field(5)

@@ -51,8 +51,8 @@ class HelpersTest(unittest.TestCase):
         self.assertEqual(int_power(256, 1000), 256 ** 1000)
 
     def test_is_prime(self):
-        expected = [n for n in range(2, 1001) if all(n % d for d in range(2, n))]
-        self.assertEqual([n for n in range(-20, 1001) if is_prime(n)], expected)
+        for n in range(-20, 1001):
+            self.assertIs(is_prime(n), n > 1 and all(n % d for d in range(2, n)))
         self.assertIs(is_prime(2), True)
         self.assertIs(is_prime(961), False)
 

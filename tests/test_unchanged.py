@@ -150,7 +150,7 @@ def outcome(call, arguments):
 
 class UnchangedTest(unittest.TestCase):
     def test_point_3_arguments_stay_as_they_are(self):
-        before = [state_of(value) for value in KEPT]
+        before = [deep_copy(state_of(value)) for value in KEPT]
         for call, *arguments in CALLS:
             with self.subTest(call=call.__name__, arguments=arguments):
                 given = deep_copy(arguments)
@@ -160,7 +160,7 @@ class UnchangedTest(unittest.TestCase):
         self.assertEqual([state_of(value) for value in KEPT], before)
 
     def test_point_3_results_are_new_lists(self):
-        before = [state_of(value) for value in KEPT]
+        before = [deep_copy(state_of(value)) for value in KEPT]
         for call, *arguments in CALLS:
             with self.subTest(call=call.__name__, arguments=arguments):
                 given = deep_copy(arguments)
@@ -172,6 +172,15 @@ class UnchangedTest(unittest.TestCase):
                 self.assertEqual(given, arguments)
                 self.assertEqual(outcome(call, given), kept)
         self.assertEqual([state_of(value) for value in KEPT], before)
+
+    def test_point_3_objects_give_new_lists_each_time(self):
+        for value in KEPT:
+            before = deep_copy(state_of(value))
+            told = state_of(value)
+            places = all_lists(told)
+            self.assertEqual(len(places), len(set(places)))
+            spoil(told)
+            self.assertEqual(state_of(value), before)
 
     def test_point_3_objects_copy_what_they_are_given(self):
         rows = deep_copy(ROWS)
