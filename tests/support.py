@@ -98,6 +98,49 @@ def random_rows(seed, field, many, width):
     return [[source.randrange(field.order) for _ in range(width)] for _ in range(many)]
 
 
+ENCODERS = (
+    [[1]], [[1], [0]], [[0], [1], [1]], [[1], [1], [1], [1]], [[0, 1]], [[1, 0], [1, 1]], [[0, 0], [0, 1]], [[1, 1], [0, 0]],
+    [[1, 1]], [[1, 0, 1], [1, 1, 1]], [[1, 0, 1], [1, 1, 0], [0, 0, 1]], [[0, 1, 1], [0, 0, 1]], [[0, 0, 1]], [[1, 0, 0]],
+    [[1, 1, 0], [0, 1, 1]], [[1, 0, 1, 1], [1, 1, 1, 1]], [[1, 0, 0, 1], [0, 0, 0, 0]], [[0, 1, 0, 1], [0, 1, 1, 0]],
+    [[1, 0, 1, 1], [1, 1, 0, 1], [1, 1, 1, 1], [0, 1, 1, 0]],
+)
+LONG_ENCODERS = (
+    [[1, 0, 0, 1, 1], [1, 1, 1, 0, 1]], [[1, 0, 1, 1, 1, 1], [1, 1, 0, 1, 0, 1]], [[0, 1, 0, 0, 1, 0]],
+    [[1, 0, 1, 1, 0, 1], [1, 1, 1, 0, 0, 1], [1, 1, 1, 1, 0, 1], [1, 0, 0, 1, 1, 1]],
+    [[1, 1, 0, 0, 1, 1], [1, 0, 0, 0, 0, 1]],
+)
+
+
+def all_bits(many):
+    return [list(bits) for bits in itertools.product((0, 1), repeat=many)]
+
+
+def fed(taps, bits):
+    """The output bits and the last state of an encoder that is fed with the bits from the state 0 on."""
+    told = [
+        sum(item * bits[at - back] for back, item in enumerate(tap) if back <= at) % 2
+        for at in range(len(bits)) for tap in taps
+    ]
+    memory = len(taps[0]) - 1
+    return told, sum(2 ** back * bits[-1 - back] for back in range(min(memory, len(bits))))
+
+
+def slow_word(taps, message):
+    """The word of a message."""
+    return fed(taps, message + [0] * (len(taps[0]) - 1))[0]
+
+
+def differing(told, received):
+    """The number of positions that are not erased and at which the two differ."""
+    assert len(told) == len(received)
+    return sum(1 for item, other in zip(told, received) if other is not None and other != item)
+
+
+def some_received(source, length, erased=20):
+    """A list of bits, of which about so many in a hundred are erased."""
+    return [None if source.randrange(100) < erased else source.randrange(2) for _ in range(length)]
+
+
 def deep_copy(value):
     """A copy of lists and tuples; everything else stays the object that it is."""
     if isinstance(value, list):

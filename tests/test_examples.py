@@ -155,6 +155,31 @@ raises InvalidField
 >>> code.corrected([0, 0, 0, 0, 0, 2, 0, 0])
 [0, 0, 0, 0, 0, 0, 0, 0]
 """,
+    "convolution": """
+>>> from nearestword.convolution import Encoder
+>>> encoder = Encoder([[1, 0, 1], [1, 1, 0], [0, 0, 1]])
+>>> encoder.advance(2, 1)
+(1, [0, 1, 1])
+>>> encoder.word_for([1])
+[1, 1, 0, 0, 1, 0, 1, 0, 1]
+>>> encoder.states_for([1])
+[0, 1, 2, 0]
+""",
+    "trellis": """
+>>> from nearestword.convolution import Encoder
+>>> from nearestword.trellis import best_path
+>>> best_path(Encoder([[1, 0, 1], [1, 1, 0], [0, 0, 1]]), [1, 1, 0, 0, 0, 0, 1, 0, None])
+(1, [1], 1)
+""",
+    "freedistance": """
+>>> from nearestword.convolution import Encoder
+>>> from nearestword.freedistance import free_distance, lightest_detour, silent_round, spectrum
+>>> encoder = Encoder([[1, 0, 1], [1, 1, 0], [0, 0, 1]])
+>>> [free_distance(encoder), lightest_detour(encoder), spectrum(encoder, 9)]
+[5, [1, 0, 0], [0, 0, 0, 0, 0, 1, 0, 0, 2, 1]]
+>>> silent_round(Encoder([[1, 1], [0, 0]]))
+[1]
+""",
 }
 
 

@@ -3,10 +3,11 @@
 import unittest
 
 from nearestword import (
-    bch, bounds, changes, checksums, cosets, cyclic, decoding, distances, enumerators, evaluation, families, fields,
-    judging, keyequation, linear, matrices, nearest, polynomials, words,
+    bch, bounds, changes, checksums, convolution, cosets, cyclic, decoding, distances, doubts, enumerators, evaluation,
+    families, fields, freedistance, judging, keyequation, linear, matrices, nearest, pathdecoder, polynomials, trellis,
+    words,
 )
-from nearestword.errors import Ambiguous, CodeError
+from nearestword.errors import Ambiguous, Catastrophic, CodeError
 from tests.support import all_lists, deep_copy, spoil
 
 FIELD = fields.Field(5)
@@ -23,6 +24,15 @@ ERASURES = decoding.ErasureDecoder(CODE)
 CYCLIC = cyclic.CyclicCode(FIELD, 4, [3, 1])
 VALUES = evaluation.EvaluationCode(FIELD, [0, 1, 2, 3, 4], 2)
 BCH = bch.BchCode(fields.standard_field(9), 8, 4)
+ENCODER = convolution.Encoder([[1, 0, 1], [1, 1, 0]])
+SILENT = convolution.Encoder([[1, 1], [1, 1]])
+PATHS = pathdecoder.PathDecoder(ENCODER)
+TABLE = [[2, 2, 2, 2], [1, 1, 1, 2], [1, 0, 1, 2], [0, 0, 0, 0]]
+
+
+def nearest_messages(encoder, received):
+    return list(trellis.nearest_messages(encoder, received))
+
 
 CALLS = [
     (FIELD.digits, 3), (FIELD.element, [3]), (FIELD.all_elements,),
@@ -115,8 +125,23 @@ CALLS = [
     (BCH.message_of, [2, 1, 0, 1, 1, 0, 0, 0]), (BCH.message_of, [2, 1, 0, 1, 1, 0, 0, 1]), (BCH.linear,),
     (BCH.syndromes, [2, 1, 0, 1, 1, 0, 0, 1]), (BCH.corrected, [0, 0, 0, 0, 0, 2, 0, 0]), (BCH.corrected, [0] * 8),
     (BCH.corrected, [2, 1, None, 1, 1, 0, None, 0]), (BCH.corrected, [None] * 8),
+    (convolution.Encoder, [[1, 0, 1], [1, 1, 0]]), (convolution.Encoder, [[1, 0, 1], [1, 1]]), (ENCODER.advance, 2, 1),
+    (ENCODER.advance, 4, 1), (ENCODER.word_for, [1, 0]), (ENCODER.word_for, [2]), (ENCODER.states_for, [1, 0]),
+    (ENCODER.message_of, [1, 1, 0, 1, 1, 0, 0, 0]), (ENCODER.message_of, [1] * 8), (ENCODER.contains, [0] * 6),
+    (ENCODER.linear, 3), (ENCODER.step_costs, [1, None]),
+    (trellis.best_path, ENCODER, [1, None, 0, 1, 1, 1]), (nearest_messages, ENCODER, [1, None, 0, None, None, 1, 1, 0]),
+    (trellis.costs_to_go, ENCODER, [1, None, 0, 1, 1, 1]), (trellis.best_path, ENCODER, [1, None, 0, 1, 1]),
+    (trellis.check_path, ENCODER, [1, None, 0, 1, 1, 1], 2, [1], TABLE),
+    (trellis.check_path, ENCODER, [1, None, 0, 1, 1, 1], 2, [1], [[0]]),
+    (freedistance.free_distance, ENCODER), (freedistance.lightest_detour, ENCODER), (freedistance.weights_to_zero, ENCODER),
+    (freedistance.check_free_distance, ENCODER, 4, [1, 0, 0], [0, 2, 1, 2]),
+    (freedistance.check_free_distance, ENCODER, 4, [1, 0], [0, 2, 1]), (freedistance.silent_round, ENCODER),
+    (freedistance.silent_round, SILENT), (freedistance.spectrum, ENCODER, 5), (freedistance.spectrum, SILENT, 5),
+    (freedistance.weight_counts, ENCODER, 3),
+    (doubts.cost_beside, [1, 0], [None, 1]), (doubts.doubt, CODE, 3, [1, None, 2, 3]), (doubts.doubt, CODE, 3, [1, 0, 2, 4]),
+    (doubts.doubt, ZERO, 3, [0, 0, 0, 0]), (doubts.doubt, CODE, 3, [1, None, 2]), (doubts.kept, [2, 0, 1], 2),
 ]
-KEPT = (CODE, PARITY, ZERO, WHOLE, PAIRS, CHECKSUM, SYNDROMES, ERASURES, CYCLIC, VALUES, BCH)
+KEPT = (CODE, PARITY, ZERO, WHOLE, PAIRS, CHECKSUM, SYNDROMES, ERASURES, CYCLIC, VALUES, BCH, ENCODER, SILENT, PATHS)
 
 
 def state_of(value):
@@ -135,6 +160,11 @@ def state_of(value):
         return (polys, value.length, value.dimension, state_of(value.linear()), value.contains([1] * value.length))
     if isinstance(value, evaluation.EvaluationCode):
         return (value.points, value.length, value.dimension, state_of(value.linear()), value.corrected([1] * value.length))
+    if isinstance(value, convolution.Encoder):
+        steps = [value.advance(state, bit) for state in range(value.state_count) for bit in (0, 1)]
+        return (value.taps, value.memory, value.outputs, value.state_count, steps, value.word_for([1, 0, 1]))
+    if isinstance(value, pathdecoder.PathDecoder):
+        return (state_of(value.encoder), value.steps, value.costs, value.settled)
     return value
 
 
@@ -144,6 +174,8 @@ def outcome(call, arguments):
         return state_of(call(*arguments))
     except Ambiguous as error:
         return (error.__class__, error.found)
+    except Catastrophic as error:
+        return (error.__class__, error.states)
     except CodeError as error:
         return error.__class__
 
@@ -198,6 +230,10 @@ class UnchangedTest(unittest.TestCase):
         made = [cyclic.CyclicCode(FIELD, 4, poly), evaluation.EvaluationCode(FIELD, points, 2)]
         spoil([poly, points])
         self.assertEqual([state_of(code) for code in made], [state_of(CYCLIC), state_of(VALUES)])
+        taps = [[1, 0, 1], [1, 1, 0]]
+        encoder = convolution.Encoder(taps)
+        spoil(taps)
+        self.assertEqual(state_of(encoder), state_of(ENCODER))
         order, positions = [3, 1, 0, 2], [1]
         made = [changes.permuted(CODE, order), changes.shortened(CODE, positions), changes.punctured(CODE, positions)]
         before = [deep_copy(state_of(code)) for code in made]
