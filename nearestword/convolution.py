@@ -95,8 +95,7 @@ class Encoder:
         place = [at for at, tap in enumerate(self.taps) if 1 in tap][0]
         divisor = poly_trim(list(self.taps[place]))
         quotient, _ = poly_divide(self.field, poly_trim(word[place::self.outputs]), divisor)
-        if len(quotient) > length:
-            return None
+        # A quotient that is too long has a word that is too long.
         message = quotient + [0] * (length - len(quotient))
         return message if self.word_for(message) == word else None
 

@@ -26,3 +26,8 @@ def doubt(code, distance, received):
 def kept(doubts, threshold):
     """The positions at which the doubt is below the threshold, in ascending order."""
     return [at for at, item in enumerate(doubts) if item < threshold]
+
+
+def thresholds_of(doubts, distance):
+    """The thresholds up to the distance that keep some positions, without those that keep the same ones."""
+    return sorted({item + 1 for item in doubts if item < distance})

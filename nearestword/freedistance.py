@@ -163,13 +163,12 @@ def weight_counts(encoder, length):
     """The number of messages of the length whose word has each weight."""
     steps = _steps_of(encoder)
     counts = [[1]] + [[0] for _ in steps[1:]]
-    for at in range(length + encoder.memory):
-        bits = (0, 1) if at < length else (0,)
+    for _ in range(length + encoder.memory):
         longer = [[0] * (len(counts[0]) + encoder.outputs) for _ in steps]
-        for state, before in enumerate(counts):
-            for bit in bits:
-                weight, following = steps[state][bit]
+        for before, branches in zip(counts, steps):
+            for weight, following in branches:
                 heavier = _heavier(before, weight, encoder.outputs)
                 longer[following] = [many + more for many, more in zip(longer[following], heavier)]
         counts = longer
+    # The ways that end in the state 0 are those whose last bits are as many zeros as the memory.
     return counts[0]

@@ -45,15 +45,20 @@ class Trellis:
         ]
 
 
-def best_path(encoder, received):
-    """The least distance, the first nearest message, and the number of nearest messages."""
-    trellis = Trellis(encoder, received)
-    table = trellis.costs_to_go()
+def _first_message(trellis, table):
+    """The first nearest message in lexicographic order."""
     message = []
     state = 0
     for step in range(trellis.length):
         bit, state = trellis.lightest_branches(table, step, state)[0]
         message.append(bit)
+    return message
+
+
+def best_path(encoder, received):
+    """The least distance, the first nearest message, and the number of nearest messages."""
+    trellis = Trellis(encoder, received)
+    table = trellis.costs_to_go()
     # For each state the number of lightest ways that go on from it, from the last step back to the first.
     counts = [1] * encoder.state_count
     for step in reversed(range(len(table) - 1)):
@@ -61,7 +66,7 @@ def best_path(encoder, received):
             sum([counts[following] for _, following in trellis.lightest_branches(table, step, state)])
             for state in range(encoder.state_count)
         ]
-    return (table[0][0], message, counts[0])
+    return (table[0][0], _first_message(trellis, table), counts[0])
 
 
 def nearest_messages(encoder, received):

@@ -99,8 +99,10 @@ def random_rows(seed, field, many, width):
 
 
 ENCODERS = (
-    [[1]], [[1], [0]], [[0], [1], [1]], [[1], [1], [1], [1]], [[0, 1]], [[1, 0], [1, 1]], [[0, 0], [0, 1]], [[1, 1], [0, 0]],
-    [[1, 1]], [[1, 0, 1], [1, 1, 1]], [[1, 0, 1], [1, 1, 0], [0, 0, 1]], [[0, 1, 1], [0, 0, 1]], [[0, 0, 1]], [[1, 0, 0]],
+    [[1]], [[1], [0]], [[0], [1], [1]], [[1], [1], [1], [1]], [[0, 1]], [[1, 0], [1, 1]], [[0, 0], [0, 1]],
+    [[1, 1], [0, 0]],
+    [[1, 1]], [[1, 0, 1], [1, 1, 1]], [[1, 0, 1], [1, 1, 0], [0, 0, 1]], [[0, 1, 1], [0, 0, 1]], [[0, 0, 1]],
+    [[1, 0, 0]],
     [[1, 1, 0], [0, 1, 1]], [[1, 0, 1, 1], [1, 1, 1, 1]], [[1, 0, 0, 1], [0, 0, 0, 0]], [[0, 1, 0, 1], [0, 1, 1, 0]],
     [[1, 0, 1, 1], [1, 1, 0, 1], [1, 1, 1, 1], [0, 1, 1, 0]],
 )
@@ -134,6 +136,11 @@ def differing(told, received):
     """The number of positions that are not erased and at which the two differ."""
     assert len(told) == len(received)
     return sum(1 for item, other in zip(told, received) if other is not None and other != item)
+
+
+def slow_cost(word, received):
+    """Two for each error and one for each erased position."""
+    return sum(1 if told is None else 2 if told != item else 0 for item, told in zip(word, received))
 
 
 def some_received(source, length, erased=20):

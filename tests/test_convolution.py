@@ -59,7 +59,10 @@ class EncoderTest(unittest.TestCase):
         for taps in ([[1]], [[1, 1]], [[1, 0, 1, 1, 0, 1]]):
             encoder = Encoder(taps)
             last = encoder.state_count - 1
-            for state, bit in ((-1, 0), (last + 1, 0), (last + 1, 1), (-1, 2), (0, 2), (0, -1), (last, 2), (last, -1), (10 ** 20, 0)):
+            for state, bit in (
+                (-1, 0), (last + 1, 0), (last + 1, 1), (-1, 2), (0, 2), (0, -1), (last, 2), (last, -1),
+                (10 ** 20, 0),
+            ):
                 with self.assertRaises(InvalidWord):
                     encoder.advance(state, bit)
             self.assertEqual(encoder.advance(0, 0), (0, [0]))
@@ -145,7 +148,8 @@ class EncoderTest(unittest.TestCase):
         encoder = Encoder([[1, 0, 1], [1, 1, 0], [0, 0, 1]])
         # The last ones have an item that is wrong and are in no other way the word of a message.
         wrong = [
-            [], [0] * 3, [0] * 5, [0] * 7, [0] * 8, [0] * 256, [None] * 6, [0] * 5 + [None], [2] + [0] * 5, [0] * 8 + [-1],
+            [], [0] * 3, [0] * 5, [0] * 7, [0] * 8, [0] * 256, [None] * 6, [0] * 5 + [None], [2] + [0] * 5,
+            [0] * 8 + [-1],
             [1, 1, 1, 1, 1, 1, 1, 1, 2], [1, 1, 1, 1, 1, 1, 1, 1, None], [1] * 10, [10 ** 20] * 6,
         ]
         for word in wrong:
@@ -178,7 +182,9 @@ class EncoderTest(unittest.TestCase):
     def test_point_91_linear_limits(self):
         self.assertEqual(Encoder([[1, 1]]).linear(0).rows, [])
         self.assertEqual(Encoder([[1, 1]]).linear(0).length, 1)
-        for taps, length in (([[1]], 255), ([[1, 0, 1], [1, 1, 0], [0, 0, 1]], 83), ([[1] * 6] * 3, 80), ([[0, 1]], 254)):
+        for taps, length in (
+            ([[1]], 255), ([[1, 0, 1], [1, 1, 0], [0, 0, 1]], 83), ([[1] * 6] * 3, 80), ([[0, 1]], 254),
+        ):
             code = Encoder(taps).linear(length)
             self.assertEqual((code.length, code.dimension), (255, length))
             self.assertTrue(code.contains(Encoder(taps).word_for([1, 0, 1] * (length // 3) + [1] * (length % 3))))

@@ -5,16 +5,12 @@ import random
 import unittest
 
 from nearestword.distances import minimum_distance
-from nearestword.doubts import cost_beside, doubt, kept
+from nearestword.doubts import cost_beside, doubt, kept, thresholds_of
 from nearestword.errors import InvalidWord, TooLarge
 from nearestword.families import hamming_code, parity_code, repetition_code, whole_code, zero_code
 from nearestword.fields import Field, standard_field
 from nearestword.linear import LinearCode
-from tests.support import SMALL_FIELDS, random_rows
-
-
-def slow_cost(word, received):
-    return sum(1 if told is None else 2 if told != item else 0 for item, told in zip(word, received))
+from tests.support import SMALL_FIELDS, random_rows, slow_cost
 
 
 def slow_doubt(words, distance, received):
@@ -42,7 +38,9 @@ class DoubtsTest(unittest.TestCase):
                 cost_beside(word, received)
 
     def test_point_108_every_received_word(self):
-        for field, length, rows in ((Field(2), 5, [[1, 1, 1, 0, 0], [0, 0, 1, 1, 1]]), (Field(3), 4, [[1, 1, 1, 0], [0, 1, 2, 1]])):
+        for field, length, rows in (
+            (Field(2), 5, [[1, 1, 1, 0, 0], [0, 0, 1, 1, 1]]), (Field(3), 4, [[1, 1, 1, 0], [0, 1, 2, 1]]),
+        ):
             code = LinearCode(field, length, rows)
             words = code.words()
             for received in map(list, itertools.product([None] + list(range(field.order)), repeat=length)):
@@ -117,3 +115,13 @@ class DoubtsTest(unittest.TestCase):
         self.assertEqual([kept(doubts, threshold) for threshold in (-1, 0, 1, 2, 3, 6)],
                          [[], [5], [1, 5], [1, 5], [1, 2, 4, 5], [0, 1, 2, 3, 4, 5]])
         self.assertEqual((kept([], 3), kept([2], 2), kept([2], 3)), ([], [], [0]))
+
+    def test_thresholds_that_keep_something(self):
+        self.assertEqual([thresholds_of(doubts, 3) for doubts in ([], [3, 3], [0, 3], [2, 0, 2, 1], [2, 3])],
+                         [[], [], [1], [1, 2, 3], [3]])
+        source = random.Random(1081)
+        for distance in range(1, 6):
+            doubts = [source.randrange(distance + 1) for _ in range(6)]
+            every = [kept(doubts, threshold) for threshold in range(1, distance + 1)]
+            expected = [some for at, some in enumerate(every) if some and some not in every[:at]]
+            self.assertEqual([kept(doubts, threshold) for threshold in thresholds_of(doubts, distance)], expected)

@@ -180,6 +180,42 @@ raises InvalidField
 >>> silent_round(Encoder([[1, 1], [0, 0]]))
 [1]
 """,
+    "interleaving": """
+>>> from nearestword.interleaving import interleave, spread
+>>> interleave([[1, 2, 3], [4, None, 6]])
+[1, 4, 2, None, 3, 6]
+>>> spread([1, 4, 2, None, 3, 6], 3)
+[[1, None], [4, 3], [2, 6]]
+""",
+    "products": """
+>>> from nearestword.families import parity_code
+>>> from nearestword.fields import standard_field
+>>> from nearestword.products import ProductCode
+>>> product = ProductCode(parity_code(standard_field(2), 3), parity_code(standard_field(2), 3))
+>>> product.matrix_for([[1, 0], [1, 1]])
+[[1, 0, 1], [1, 1, 0], [0, 1, 1]]
+
+>>> from nearestword.families import parity_code
+>>> from nearestword.fields import standard_field
+>>> from nearestword.products import ProductCode
+>>> product = ProductCode(parity_code(standard_field(2), 3), parity_code(standard_field(2), 3))
+>>> product.corrected([[1, 0, 1], [1, 0, 0], [0, 1, 1]])
+[[1, 0, 1], [1, 1, 0], [0, 1, 1]]
+""",
+    "concatenation": """
+>>> from nearestword.fields import Field
+>>> from nearestword.linear import LinearCode
+>>> from nearestword.evaluation import EvaluationCode
+>>> from nearestword.concatenation import ConcatenatedCode
+>>> outer = EvaluationCode(Field(2, (1, 1, 1)), [0, 1, 2], 1)
+>>> code = ConcatenatedCode(outer, LinearCode(Field(2), 3, [[1, 0, 1], [0, 1, 1]]))
+>>> [code.distance, code.word_for([2])]
+[6, [0, 1, 1, 0, 1, 1, 0, 1, 1]]
+>>> code.judged([0, 1, 1, 0, None, 1, 1, 1, 1])
+[(2, 0), (2, 1), (None, 2)]
+>>> code.corrected([0, 1, 1, 0, None, 1, 1, 1, 1])
+[0, 1, 1, 0, 1, 1, 0, 1, 1]
+""",
 }
 
 

@@ -12,8 +12,13 @@ from nearestword.freedistance import (
 )
 from tests.support import ENCODERS, LONG_ENCODERS, all_bits, fed, slow_word
 
+# A detour with a 0 in the place of the second 1 is as light as the lightest one, but longer.
+SHORTER_WITH_A_ONE = (
+    [[0, 0, 1, 0, 1], [1, 1, 1, 1, 1]], [[0, 1, 1, 1, 1], [1, 0, 1, 1, 1]], [[0, 0, 0, 1, 0, 1], [1, 1, 1, 1, 1, 1]],
+)
 CATASTROPHIC = (
-    [[1, 1]], [[1, 1], [0, 0]], [[1, 1], [1, 1]], [[1, 1, 0], [0, 1, 1]], [[1, 0, 1], [1, 1, 0]], [[1, 1, 1], [1, 1, 1]],
+    [[1, 1]], [[1, 1], [0, 0]], [[1, 1], [1, 1]], [[1, 1, 0], [0, 1, 1]], [[1, 0, 1], [1, 1, 0]],
+    [[1, 1, 1], [1, 1, 1]],
     [[1, 0, 0, 1], [0, 0, 0, 0]], [[1, 1, 0, 0, 1, 1], [1, 0, 0, 0, 0, 1]], [[0, 1, 0, 1], [0, 1, 1, 0]],
     [[1, 1, 1, 1, 1, 1]] * 4,
 )
@@ -158,7 +163,8 @@ class FreeDistanceTest(unittest.TestCase):
             self.assertEqual(spectrum(encoder, 5), [1 if at == weight else 0 for at in range(6)])
 
     def test_point_102_the_shortest_detour_and_then_the_first(self):
-        for taps in LONG_ENCODERS + ([[0] * 5 + [1]], [[0, 0, 0, 1, 0, 1], [0, 0, 0, 0, 1, 1]]):
+        self.assertEqual(lightest_detour(Encoder(SHORTER_WITH_A_ONE[0])), [1, 1, 0, 0, 0, 0])
+        for taps in LONG_ENCODERS + SHORTER_WITH_A_ONE + ([[0] * 5 + [1]], [[0, 0, 0, 1, 0, 1], [0, 0, 0, 0, 1, 1]]):
             encoder = Encoder(taps)
             detour = lightest_detour(encoder)
             self.assertLessEqual(len(detour), 14)
@@ -320,7 +326,13 @@ class FreeDistanceTest(unittest.TestCase):
             counts = weight_counts(encoder, 255)
             self.assertEqual(len(counts), encoder.outputs * (255 + encoder.memory) + 1)
             self.assertEqual(sum(counts), 2 ** 255)
-            self.assertEqual((counts[0], [at for at, many in enumerate(counts) if many > 0][1]), (1, free_distance(encoder)))
+            self.assertEqual(
+                (counts[0], [at for at, many in enumerate(counts) if many > 0][1]),
+                (1, free_distance(encoder)),
+            )
             self.assertEqual(weight_counts(encoder, 10), enumerator(encoder.linear(10)))
         self.assertEqual(weight_counts(Encoder([[1]]), 3), [1, 3, 3, 1])
-        self.assertEqual((weight_counts(Encoder([[1]]), 0), weight_counts(Encoder([[1, 1], [0, 1]]), 0)), ([1], [1, 0, 0]))
+        self.assertEqual(
+            (weight_counts(Encoder([[1]]), 0), weight_counts(Encoder([[1, 1], [0, 1]]), 0)),
+            ([1], [1, 0, 0]),
+        )

@@ -63,6 +63,7 @@ def bound_names(tree):
     found = [node.id for node in nodes_of(tree, ast.Name) if not isinstance(node.ctx, ast.Load)]
     found += [node.arg for node in nodes_of(tree, ast.arg)]
     found += [node.name for node in nodes_of(tree, (ast.FunctionDef, ast.ClassDef))]
+    found += [node.name for node in nodes_of(tree, (ast.MatchAs, ast.MatchStar)) if node.name]
     return found + [node.name for node in nodes_of(tree, ast.ExceptHandler) if node.name]
 
 
@@ -214,4 +215,4 @@ class LanguageTest(unittest.TestCase):
                 if isinstance(node.value, str):
                     self.assertNotIn("%", node.value)
                     self.assertFalse(node.value.endswith(("._", ".__")))
-            self.assertNotIn("\\", self.texts[name])
+            self.assertEqual(re.findall(r"\\[^nt\\'\"]", self.texts[name]), [])

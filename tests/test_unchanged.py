@@ -3,9 +3,9 @@
 import unittest
 
 from nearestword import (
-    bch, bounds, changes, checksums, convolution, cosets, cyclic, decoding, distances, doubts, enumerators, evaluation,
-    families, fields, freedistance, judging, keyequation, linear, matrices, nearest, pathdecoder, polynomials, trellis,
-    words,
+    bch, bounds, changes, checksums, concatenation, convolution, cosets, cyclic, decoding, distances, doubts,
+    enumerators, evaluation, families, fields, freedistance, interleaving, judging, keyequation, linear, matrices,
+    nearest, notation, pathdecoder, polynomials, products, report, trellis, words, workshop,
 )
 from nearestword.errors import Ambiguous, Catastrophic, CodeError
 from tests.support import all_lists, deep_copy, spoil
@@ -27,6 +27,12 @@ BCH = bch.BchCode(fields.standard_field(9), 8, 4)
 ENCODER = convolution.Encoder([[1, 0, 1], [1, 1, 0]])
 SILENT = convolution.Encoder([[1, 1], [1, 1]])
 PATHS = pathdecoder.PathDecoder(ENCODER)
+INTERLEAVED = interleaving.InterleavedCode(VALUES, 2)
+PRODUCT = products.ProductCode(families.parity_code(FIELD, 3), families.repetition_code(FIELD, 3))
+OUTER = evaluation.EvaluationCode(fields.Field(2, (1, 1, 1)), [0, 1, 2], 1)
+INNER = linear.LinearCode(fields.Field(2), 3, [[1, 0, 1], [0, 1, 1]])
+CONCATENATED = concatenation.ConcatenatedCode(OUTER, INNER)
+SHOP = workshop.Workshop()
 TABLE = [[2, 2, 2, 2], [1, 1, 1, 2], [1, 0, 1, 2], [0, 0, 0, 0]]
 
 
@@ -108,9 +114,11 @@ CALLS = [
     (CYCLIC.word_for, [1, 0]), (CYCLIC.contains, [2, 1, 0, 2]), (CYCLIC.message_of, [2, 1, 0, 2]),
     (CYCLIC.message_of, [2, 1, 0, 1]), (CYCLIC.shifted, [2, 1, 0, 1], 0), (CYCLIC.shifted, [2, 1, 0, 1], -3),
     (CYCLIC.linear,), (cyclic.CyclicCode(FIELD, 4, [1]).word_for, [1, 0, 2, 0]),
-    (cyclic.CyclicCode(FIELD, 4, [1]).message_of, [1, 0, 2, 0]), (cyclic.CyclicCode(FIELD, 4, [4, 0, 0, 0, 1]).word_for, []),
+    (cyclic.CyclicCode(FIELD, 4, [1]).message_of, [1, 0, 2, 0]),
+    (cyclic.CyclicCode(FIELD, 4, [4, 0, 0, 0, 1]).word_for, []),
     (cyclic.cyclic_generators, FIELD, 4),
-    (keyequation.key_equation, FIELD, [0, 0, 0, 1], [1, 1], 1), (keyequation.key_equation, FIELD, [0, 0, 0, 1], [1, 1], 3),
+    (keyequation.key_equation, FIELD, [0, 0, 0, 1], [1, 1], 1),
+    (keyequation.key_equation, FIELD, [0, 0, 0, 1], [1, 1], 3),
     (keyequation.key_equation, FIELD, [0, 0, 0, 1], [], 0), (keyequation.key_equation, FIELD, [], [], 0),
     (keyequation.shortest_register, FIELD, [1, 3, 2, 2, 1, 4]), (keyequation.shortest_register, FIELD, []),
     (keyequation.shortest_register, FIELD, [0, 0, 3]),
@@ -133,15 +141,56 @@ CALLS = [
     (trellis.costs_to_go, ENCODER, [1, None, 0, 1, 1, 1]), (trellis.best_path, ENCODER, [1, None, 0, 1, 1]),
     (trellis.check_path, ENCODER, [1, None, 0, 1, 1, 1], 2, [1], TABLE),
     (trellis.check_path, ENCODER, [1, None, 0, 1, 1, 1], 2, [1], [[0]]),
-    (freedistance.free_distance, ENCODER), (freedistance.lightest_detour, ENCODER), (freedistance.weights_to_zero, ENCODER),
+    (freedistance.free_distance, ENCODER), (freedistance.lightest_detour, ENCODER),
+    (freedistance.weights_to_zero, ENCODER),
     (freedistance.check_free_distance, ENCODER, 4, [1, 0, 0], [0, 2, 1, 2]),
     (freedistance.check_free_distance, ENCODER, 4, [1, 0], [0, 2, 1]), (freedistance.silent_round, ENCODER),
     (freedistance.silent_round, SILENT), (freedistance.spectrum, ENCODER, 5), (freedistance.spectrum, SILENT, 5),
     (freedistance.weight_counts, ENCODER, 3),
-    (doubts.cost_beside, [1, 0], [None, 1]), (doubts.doubt, CODE, 3, [1, None, 2, 3]), (doubts.doubt, CODE, 3, [1, 0, 2, 4]),
+    (doubts.cost_beside, [1, 0], [None, 1]), (doubts.doubt, CODE, 3, [1, None, 2, 3]),
+    (doubts.doubt, CODE, 3, [1, 0, 2, 4]),
     (doubts.doubt, ZERO, 3, [0, 0, 0, 0]), (doubts.doubt, CODE, 3, [1, None, 2]), (doubts.kept, [2, 0, 1], 2),
+    (doubts.doubt_among, [[0, 0], [1, 1]], 2, [1, None]), (doubts.thresholds_of, [2, 0, 1], 2),
+    (interleaving.interleave, [[1, 2], [3, None]]), (interleaving.interleave, [[1, 2]]),
+    (interleaving.interleave, [[1], []]),
+    (interleaving.spread, [1, 2, None, 4], 2), (interleaving.spread, [1, 2], 1), (interleaving.spread, [1, 2], 0),
+    (interleaving.InterleavedCode, VALUES, 3), (interleaving.InterleavedCode, VALUES, 0),
+    (INTERLEAVED.word_for, [[1, 2], [0, 3]]), (INTERLEAVED.word_for, [[1, 2], [0]]), (INTERLEAVED.contains, [1] * 10),
+    (INTERLEAVED.messages_of, [1] * 10), (INTERLEAVED.messages_of, [1] * 9 + [2]), (INTERLEAVED.linear,),
+    (INTERLEAVED.corrected, [1] * 9 + [None]), (INTERLEAVED.corrected, [1] * 10), (INTERLEAVED.corrected, [None] * 10),
+    (products.ProductCode, PARITY, CODE), (products.ProductCode, PARITY, ZERO), (PRODUCT.matrix_for, [[1, 2]]),
+    (PRODUCT.matrix_for, [[1], [2]]), (PRODUCT.contains, [[1, 2, 2]] * 3),
+    (PRODUCT.messages_of, [[1, 2, 2], [1, 2, 2], [1, 2, 2]]),
+    (PRODUCT.messages_of, [[1, 2, 2], [1, 2, 2], [0, 0, 0]]), (PRODUCT.linear,), (PRODUCT.mended, 1),
+    (PRODUCT.corrected, [[1, 2, 2], [1, 2, 2], [1, 2, 2]]), (PRODUCT.corrected, [[1, 2, 2], [1, None, 2], [4, 2, 2]]),
+    (PRODUCT.corrected, [[1, 2, 2], [None, None, None], [None, None, None]]), (PRODUCT.corrected, [[1, 2, 2], [1, 2]]),
+    (concatenation.ConcatenatedCode, OUTER, INNER), (concatenation.ConcatenatedCode, VALUES, INNER),
+    (CONCATENATED.word_for, [2]),
+    (CONCATENATED.word_for, [4]), (CONCATENATED.message_of, [0, 1, 1] * 3),
+    (CONCATENATED.message_of, [0, 1, 1] * 2 + [0, 0, 0]),
+    (CONCATENATED.contains, [0, 1, 1] * 3), (CONCATENATED.linear,), (CONCATENATED.mended, 2),
+    (CONCATENATED.judged, [0, 1, 1, 0, None, 1, 1, 1, 1]),
+    (CONCATENATED.outer_received, [0, 1, 1, 0, None, 1, 1, 1, 1], 2),
+    (CONCATENATED.corrected, [0, 1, 1, 0, None, 1, 1, 1, 1]), (CONCATENATED.corrected, [0, 1, 1] * 3),
+    (CONCATENATED.corrected, [None] * 9), (CONCATENATED.judged, [2] * 9),
+    (notation.format_field, FIELD), (notation.format_code, CODE), (notation.format_word, [1, None]),
+    (notation.format_word, []),
+    (notation.parse_field, "field 5 0 1"), (notation.parse_field, "field 5"),
+    (notation.parse_code, "field 5 0 1\nlength 2\nrow 3 1"),
+    (notation.parse_code, "field 5 0 1\nlength 2\nrow 3"), (notation.parse_word, FIELD, "3 ?"),
+    (notation.parse_word, FIELD, "5"),
+    (report.parameters, CODE), (report.weight_table, CODE), (report.leader_table, PAIRS), (report.leader_table, ZERO),
+    (SHOP.code_names,), (SHOP.code_of, "a"), (SHOP.code_of, "b"), (SHOP.received_words, "a"), (SHOP.answers, "a"),
+    (SHOP.change_all, []),
+    (SHOP.receive, "a", [5, 0, 0, 0]), (SHOP.add_code, "a", PARITY), (SHOP.replace_code, "a", PAIRS),
+    (SHOP.remove_code, "b"),
+    (SHOP.change_all, [("remove", "a"), ("all", [("receive", "a", [0, 0, 0, 0])])]),
 ]
-KEPT = (CODE, PARITY, ZERO, WHOLE, PAIRS, CHECKSUM, SYNDROMES, ERASURES, CYCLIC, VALUES, BCH, ENCODER, SILENT, PATHS)
+SHOP.add_code("a", CODE)
+SHOP.receive("a", [1, None, 2, 3])
+SHOP.answers("a")
+KEPT = (CODE, PARITY, ZERO, WHOLE, PAIRS, CHECKSUM, SYNDROMES, ERASURES, CYCLIC, VALUES, BCH, ENCODER, SILENT, PATHS,
+        INTERLEAVED, PRODUCT, CONCATENATED, SHOP)
 
 
 def state_of(value):
@@ -159,12 +208,23 @@ def state_of(value):
         polys = (value.generator, getattr(value, "check_polynomial", None))
         return (polys, value.length, value.dimension, state_of(value.linear()), value.contains([1] * value.length))
     if isinstance(value, evaluation.EvaluationCode):
-        return (value.points, value.length, value.dimension, state_of(value.linear()), value.corrected([1] * value.length))
+        return (
+            value.points, value.length, value.dimension, state_of(value.linear()),
+            value.corrected([1] * value.length),
+        )
     if isinstance(value, convolution.Encoder):
         steps = [value.advance(state, bit) for state in range(value.state_count) for bit in (0, 1)]
         return (value.taps, value.memory, value.outputs, value.state_count, steps, value.word_for([1, 0, 1]))
     if isinstance(value, pathdecoder.PathDecoder):
         return (state_of(value.encoder), value.steps, value.costs, value.settled)
+    if isinstance(value, (interleaving.InterleavedCode, products.ProductCode, concatenation.ConcatenatedCode)):
+        names = "length depth burst_mended burst_filled width height distance dimension".split()
+        return ([getattr(value, name, None) for name in names], state_of(value.linear()))
+    if isinstance(value, fields.Field):
+        return (value.prime, value.modulus)
+    if isinstance(value, workshop.Workshop):
+        told = [(state_of(value.code_of(name)), value.received_words(name)) for name in value.code_names()]
+        return (value.code_names(), told, value.computed)
     return value
 
 
@@ -230,6 +290,11 @@ class UnchangedTest(unittest.TestCase):
         made = [cyclic.CyclicCode(FIELD, 4, poly), evaluation.EvaluationCode(FIELD, points, 2)]
         spoil([poly, points])
         self.assertEqual([state_of(code) for code in made], [state_of(CYCLIC), state_of(VALUES)])
+        received = [1, None, 2, 3]
+        shop = workshop.Workshop()
+        shop.change_all([("add", "a", CODE), ("receive", "a", received)])
+        spoil(received)
+        self.assertEqual(shop.received_words("a"), [[1, None, 2, 3]])
         taps = [[1, 0, 1], [1, 1, 0]]
         encoder = convolution.Encoder(taps)
         spoil(taps)
